@@ -1,0 +1,104 @@
+"""Checks of the rules of LANGUAGE.md that can be read off the source in a few lines."""
+
+import ast
+import builtins
+import pathlib
+import re
+import unittest
+import warnings
+
+PACKAGE = pathlib.Path(__file__).resolve().parent.parent / "frontmeets"
+
+ALLOWED_BUILTINS = set(
+    "len range enumerate zip min max sum abs sorted reversed int str bool bytes list tuple dict "
+    "set frozenset isinstance ord repr any all divmod iter next super property staticmethod "
+    "classmethod Exception ValueError TypeError KeyError IndexError LookupError "
+    "ZeroDivisionError ArithmeticError OverflowError RuntimeError NotImplementedError "
+    "AttributeError StopIteration NotImplemented".split()
+)
+BARRED_WORDS = re.compile(
+    r"\b(type|typing|typing_extensions|enum|Enum|IntEnum|StrEnum|Flag|IntFlag|Generic|Protocol|"
+    r"ABC|ABCMeta|namedtuple|NamedTuple|TypedDict|TYPE_CHECKING|abstractmethod)\b"
+    r"|dataclass|overload|contextmanager"
+)
+
+
+def source_files():
+    """Return a list of (name, text) of the files of the package."""
+    return [(path.name, path.read_text("utf-8")) for path in sorted(PACKAGE.glob("*.py"))]
+
+
+def nodes_of(text, *kinds):
+    """Return the nodes of these kinds in the text."""
+    return [node for node in ast.walk(ast.parse(text)) if isinstance(node, kinds)]
+
+
+def names_in(text):
+    """Return all names that the text binds, reads or asks an object for."""
+    names = [node.id for node in nodes_of(text, ast.Name)]
+    names += [node.attr for node in nodes_of(text, ast.Attribute)]
+    names += [node.arg for node in nodes_of(text, ast.arg)]
+    names += [node.name for node in nodes_of(text, ast.FunctionDef, ast.ClassDef)]
+    return names
+
+
+class FormTest(unittest.TestCase):
+    def test_the_package_is_one_folder_of_plain_files(self):
+        others = [path.name for path in PACKAGE.iterdir() if path.suffix != ".py"]
+        self.assertIn(others, [[], ["__pycache__"]])
+        names = [name for name, _ in source_files()]
+        self.assertIn("__init__.py", names)
+        self.assertLessEqual(len(names), 100)
+        for name in names:
+            self.assertRegex(name, r"^([a-z][a-z0-9_]*|__init__|__main__)\.py$")
+
+    def test_sizes_and_characters(self):
+        for name, text in source_files():
+            with self.subTest(name=name):
+                self.assertEqual(re.findall(r"[^ -~\n]", text), [])
+                lines = text.split("\n")
+                self.assertLess(len(lines), 400)
+                self.assertLessEqual(max([len(line) for line in lines]), 120)
+                for node in nodes_of(text, ast.FunctionDef):
+                    self.assertLessEqual(node.end_lineno - node.lineno + 1, 40, node.name)
+
+    def test_imports(self):
+        for name, text in source_files():
+            with self.subTest(name=name):
+                if name != "__main__.py":
+                    self.assertEqual(nodes_of(text, ast.Import), [])
+                for node in nodes_of(text, ast.ImportFrom):
+                    self.assertEqual(node.level, 0)
+                    self.assertRegex(node.module, r"^(frontmeets\.[a-z]+|__future__)$")
+                    self.assertNotIn("*", [part.name for part in node.names])
+
+    def test_names(self):
+        for name, text in source_files():
+            with self.subTest(name=name):
+                private = [word for word in names_in(text) if re.match(r"_(?!_[a-z]+__$)", word)]
+                self.assertEqual(private, [])
+                read = {node.id for node in nodes_of(text, ast.Name)} & set(dir(builtins))
+                if name == "__main__.py":
+                    read -= {"print", "__name__"}
+                self.assertEqual(sorted(read - ALLOWED_BUILTINS), [])
+                self.assertIsNone(BARRED_WORDS.search(text))
+
+    def test_no_statement_or_value_outside_the_subset(self):
+        barred = (ast.Global, ast.AsyncFunctionDef, ast.Await, ast.Div)
+        for name, text in source_files():
+            with self.subTest(name=name):
+                self.assertEqual(nodes_of(text, *barred), [])
+                constants = [node.value for node in nodes_of(text, ast.Constant)]
+                self.assertEqual([x for x in constants if isinstance(x, (float, complex))], [])
+                strings = [value for value in constants if isinstance(value, str)]
+                self.assertEqual([value for value in strings if "%" in value], [])
+
+    def test_no_warnings(self):
+        for name, text in source_files():
+            with self.subTest(name=name), warnings.catch_warnings():
+                warnings.simplefilter("error")
+                compile(text, name, "exec")
+
+
+if __name__ == "__main__":
+    unittest.main()
