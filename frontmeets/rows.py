@@ -1,4 +1,4 @@
-"""Heights, rows, kinds, and the trains of a row."""
+"""Numbers, heights, rows, kinds, and the trains of a row."""
 
 from frontmeets.errors import InvalidKind, InvalidRow
 from frontmeets.limits import MOST_HEIGHT, MOST_PEOPLE
@@ -7,12 +7,20 @@ LOW = "low"
 HIGH = "high"
 
 
+def is_number(value):
+    """Tell whether the value is an integer."""
+    # bool is a subclass of int, but True is no integer here.
+    return isinstance(value, int) and not isinstance(value, bool)
+
+
+def is_below(value, limit):
+    """Tell whether the value is an integer from 0 to below the limit, such as an index."""
+    return is_number(value) and 0 <= value < limit
+
+
 def is_height(value):
     """Tell whether the value is a height."""
-    # bool is a subclass of int, but True is no height.
-    if isinstance(value, bool) or not isinstance(value, int):
-        return False
-    return 1 <= value <= MOST_HEIGHT
+    return is_number(value) and 1 <= value <= MOST_HEIGHT
 
 
 def is_kind(value):

@@ -1,4 +1,6 @@
-"""Values of many kinds, for the places where any value may be passed."""
+"""Values of many kinds, for the places where any value may be passed, and plans."""
+
+import random
 
 
 class Agreeing:
@@ -32,3 +34,84 @@ def other_values():
 def plain_values():
     """Return values, made anew, among which are heights, rows and kinds too."""
     return [0, 1, 7, 999, "low", "high", "a", (), (1,), (5, 1), ("a", (5, 1))] + other_values()
+
+
+# Values of which none is a plan, although some look much like one.
+NO_PLANS = (
+    "", "A", "aB", "abcdefg", "a1", "1", "a b", "a ", " a", "a\n", "\n", "a-b", "low(a, b)", "~",
+    b"a", ("a",), ("a", "b"), ("low",), ("low", "ab"), ("low", "a", "b"), ("low", ("a", "b"), ()),
+    (("a", "b"), "low"), ("low", ()), ("low", ("a",)), ("low", (("low", ("a", "b")),)),
+    ("low", ["a", "b"]), ["low", ("a", "b")], ("low", {"a": "b"}), ("low", {"a", "b"}),
+    ("Low", ("a", "b")), ("middle", ("a", "b")), ("", ("a", "b")), (None, ("a", "b")),
+    (True, ("a", "b")), (b"low", ("a", "b")), (("low",), ("a", "b")), (["low"], ("a", "b")),
+    ("low", ("a", "a")), ("low", ("a", ("high", ("b", "a")))), ("low", ("a", 1)),
+    ("high", (("low", ("a", "b")), ("low", ("c", ("high", ("d", "a")))))),
+    ("low", ("a", None)), ("low", ("a", ())), ("low", ("a", "B")), ("low", ("a", "abcdefg")),
+    ("low", ("a", ["b"])), ("low", ("a", ["high", ("b", "c")])), ("low", ("a", ("high", ["b", "c"]))),
+    ("low", ("a", ("high", ("b",)))), ("low", ("a", ("high", ("b", "c"), "d"))),
+    ("low", ("a", ("High", ("b", "c")))), ("low", ("a", "b", "c", "d", "e", "f", "g", "h", "i")),
+    ("low", (("high", ("a", "b", "c", "d")), ("high", ("e", "f", "g", "h", "i")))),
+)
+
+
+def no_plans():
+    """Return values, made anew, of which none is a plan."""
+    return list(NO_PLANS) + [value for value in other_values() if value_is_no_line(value)]
+
+
+def value_is_no_line(value):
+    # This one of the other values happens to be a line.
+    return not (isinstance(value, str) and value == "lo")
+
+
+def left_comb(kinds):
+    """Return the plan ((a b) c) .. whose junctions have these kinds, the innermost first."""
+    plan = "a"
+    for kind, line in zip(kinds, "bcdefgh"):
+        plan = (kind, (plan, line))
+    return plan
+
+
+def right_comb(kinds):
+    """Return the plan (a (b (c ..))) whose junctions have these kinds, the innermost first."""
+    lines = "abcdefgh"[:len(kinds) + 1][::-1]
+    plan = lines[0]
+    for kind, line in zip(kinds, lines[1:]):
+        plan = (kind, (line, plan))
+    return plan
+
+
+# Plans of one to eight lines, flat and not flat, also with lines that are called like kinds.
+PLANS = (
+    "a", "abcdef", "low", "high", ("low", ("a", "b")), ("high", ("b", "a")),
+    ("low", ("high", "low")), ("high", ("low", ("low", ("a", "b")))),
+    ("low", ("a", ("high", ("b", "c")))), ("low", ("a", ("low", ("b", "c")))),
+    ("low", ("c", ("high", ("b", "a")))),
+    ("high", (("low", ("d", "b")), "c", ("high", ("e", "a")))),
+    ("low", ("h", "g", "f", "e", "d", "c", "b", "a")),
+    ("high", ("a", "b", "c", "d", "e", "f", "g", "h")),
+    ("low", (("low", (("low", ("c", "a")), "d")), ("low", ("b", ("low", ("f", "e")))))),
+    left_comb(["low", "high", "low", "high", "low", "high", "low"]),
+    right_comb(["high"] * 7),
+    left_comb(["high"] * 7),
+    ("high", (("low", (("high", ("h", "c")), ("high", ("g", "a")))),
+              ("low", (("high", ("f", "b")), ("high", ("e", "d")))))),
+)
+
+
+def make_plan(chance, lines):
+    """Return a plan of these lines, drawn from a `random.Random`."""
+    if len(lines) == 1:
+        return lines[0]
+    mixed = chance.sample(list(lines), len(lines))
+    cuts = sorted(chance.sample(range(1, len(lines)), chance.randint(1, min(3, len(lines) - 1))))
+    groups = [mixed[start:end] for start, end in zip([0] + cuts, cuts + [len(lines)])]
+    parts = tuple([make_plan(chance, group) for group in groups])
+    return chance.choice(("low", "high")), parts
+
+
+def draw_plans(count, sizes=range(1, 9)):
+    """Return so many plans for each number of lines, the same ones each time."""
+    chance = random.Random(11)
+    letters = "abcdefgh"
+    return [make_plan(chance, letters[:size]) for size in sizes for _ in range(count)]

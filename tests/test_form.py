@@ -42,6 +42,13 @@ def names_in(text):
     return names
 
 
+def bound_names(text):
+    """Return the names of parameters, variables and functions that the text binds."""
+    names = [node.arg for node in nodes_of(text, ast.arg)]
+    names += [node.id for node in nodes_of(text, ast.Name) if isinstance(node.ctx, ast.Store)]
+    return names + [node.name for node in nodes_of(text, ast.FunctionDef) if node.name[:2] != "__"]
+
+
 class FormTest(unittest.TestCase):
     def test_the_package_is_one_folder_of_plain_files(self):
         others = [path.name for path in PACKAGE.iterdir() if path.suffix != ".py"]
@@ -82,6 +89,37 @@ class FormTest(unittest.TestCase):
                     read -= {"print", "__name__"}
                 self.assertEqual(sorted(read - ALLOWED_BUILTINS), [])
                 self.assertIsNone(BARRED_WORDS.search(text))
+
+    def test_no_name_is_bound_twice(self):
+        for name, text in source_files():
+            with self.subTest(name=name):
+                top = ast.parse(text).body
+                taken = [node.name for node in top if isinstance(node, ast.ClassDef)]
+                taken += [part.name for node in nodes_of(text, ast.ImportFrom) for part in node.names]
+                self.assertEqual(sorted(set(taken)), sorted(taken))
+                bound = bound_names(text)
+                self.assertEqual(sorted(set(bound) & set(taken)), [])
+                self.assertEqual(sorted((set(bound) | set(taken)) & set(dir(builtins))), [])
+
+    def test_modules_do_not_import_each_other_in_a_circle(self):
+        wanted = {
+            "frontmeets." + name[:-3]: [node.module for node in nodes_of(text, ast.ImportFrom)]
+            for name, text in source_files()
+        }
+        while wanted:
+            free = [name for name, modules in wanted.items() if not set(modules) & set(wanted)]
+            self.assertNotEqual(free, [], wanted)
+            for name in free:
+                del wanted[name]
+
+    def test_no_generators_and_no_calls_that_are_barred(self):
+        for name, text in source_files():
+            with self.subTest(name=name):
+                # Generators are allowed with many conditions; lists serve as well.
+                self.assertEqual(nodes_of(text, ast.GeneratorExp, ast.Yield, ast.YieldFrom), [])
+                for node in nodes_of(text, ast.BinOp):
+                    if isinstance(node.op, ast.Pow):
+                        self.assertIsInstance(node.right, ast.Constant)
 
     def test_no_statement_or_value_outside_the_subset(self):
         barred = (ast.Global, ast.AsyncFunctionDef, ast.Await, ast.Div)

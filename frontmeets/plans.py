@@ -1,0 +1,177 @@
+"""Plans: their lines and junctions, the kinds between lines, paths, and steps that change a plan."""
+
+from frontmeets.errors import InvalidNames, InvalidPlan, LastLine, UnknownLine
+from frontmeets.limits import MOST_LINES
+from frontmeets.rows import is_below, is_kind
+
+LETTERS = "abcdefghijklmnopqrstuvwxyz"
+MOST_LETTERS = 6
+
+
+def is_line(value):
+    """Tell whether the value is a line."""
+    if not isinstance(value, str) or not 1 <= len(value) <= MOST_LETTERS:
+        return False
+    return all([letter in LETTERS for letter in value])
+
+
+def has_junction_form(value):
+    """Tell whether the value is a pair of a kind and two or more parts, whatever the parts are."""
+    if not isinstance(value, tuple) or len(value) != 2:
+        return False
+    kind, parts = value
+    return is_kind(kind) and isinstance(parts, tuple) and len(parts) >= 2
+
+
+def add_lines(value, lines):
+    """Append the lines of the value to the list; return False at once where it can be no plan."""
+    if is_line(value):
+        if value in lines or len(lines) == MOST_LINES:
+            return False
+        lines.append(value)
+        return True
+    if not has_junction_form(value):
+        return False
+    for part in value[1]:
+        if not add_lines(part, lines):
+            return False
+    return True
+
+
+def is_plan(value):
+    """Tell whether the value is a plan; any value may be passed."""
+    return add_lines(value, [])
+
+
+def check_plan(plan):
+    """Raise InvalidPlan if the value is not a plan."""
+    if not is_plan(plan):
+        raise InvalidPlan(plan)
+
+
+def list_lines(plan):
+    """Return the list of the lines of the plan, in the order in which they stand there."""
+    lines = []
+    add_lines(plan, lines)
+    return lines
+
+
+def lines_of(plan):
+    """Return the ascending tuple of the lines of the plan."""
+    check_plan(plan)
+    return tuple(sorted(list_lines(plan)))
+
+
+def has_line(plan, value):
+    """Tell whether the value, which may be any, is a line of the plan."""
+    return is_line(value) and value in list_lines(plan)
+
+
+def check_line(plan, line):
+    """Raise UnknownLine if the value is not a line of the plan."""
+    if not has_line(plan, line):
+        raise UnknownLine(line)
+
+
+def find_kind(plan):
+    """Return the kind of the plan if it is a junction, None if it is a line."""
+    if isinstance(plan, str):
+        return None
+    return plan[0]
+
+
+def find_least(plan):
+    """Return the least line of the plan."""
+    return min(list_lines(plan))
+
+
+def make_flat(plan):
+    """Return the flat plan to which steps lead from the plan, which is not checked."""
+    if isinstance(plan, str):
+        return plan
+    kind, parts = plan
+    flat_parts = []
+    for part in parts:
+        flat = make_flat(part)
+        if find_kind(flat) == kind:
+            flat_parts.extend(flat[1])
+        else:
+            flat_parts.append(flat)
+    return kind, tuple(sorted(flat_parts, key=find_least))
+
+
+def flatten(plan):
+    """Return the flat plan to which steps lead from the plan."""
+    check_plan(plan)
+    return make_flat(plan)
+
+
+def find_meeting_kind(plan, one, other):
+    """Return the kind between two different lines of the plan, which are not checked."""
+    kind, parts = plan
+    for part in parts:
+        lines = list_lines(part)
+        if one in lines and other in lines:
+            return find_meeting_kind(part, one, other)
+    return kind
+
+
+def kind_between(plan, one, other):
+    """Return the kind of the junction at which the two lines meet."""
+    check_plan(plan)
+    check_line(plan, one)
+    if not has_line(plan, other) or other == one:
+        raise UnknownLine(other)
+    return find_meeting_kind(plan, one, other)
+
+
+def list_pairs(lines):
+    """Return the list of the pairs of lines, each in the order in which they are given."""
+    return [(one, other) for place, one in enumerate(lines) for other in lines[place + 1:]]
+
+
+def kind_table(plan):
+    """Return the table of the kinds between the lines of the plan."""
+    pairs = list_pairs(lines_of(plan))
+    return tuple([(one, other, find_meeting_kind(plan, one, other)) for one, other in pairs])
+
+
+def keep_lines(plan, lines):
+    """Return what is left of the plan with only these lines, or None if nothing is left."""
+    if isinstance(plan, str):
+        return plan if plan in lines else None
+    kind, parts = plan
+    kept = [keep_lines(part, lines) for part in parts]
+    left = [part for part in kept if part is not None]
+    if len(left) > 1:
+        return kind, tuple(left)
+    return left[0] if left else None
+
+
+def without_line(plan, line):
+    """Return the plan without this line."""
+    check_plan(plan)
+    check_line(plan, line)
+    others = [other for other in list_lines(plan) if other != line]
+    if not others:
+        raise LastLine()
+    return keep_lines(plan, others)
+
+
+def find_wrong_name(plan, names):
+    """Return the index of the first element that is no line of the plan or does not ascend, or None."""
+    for index, name in enumerate(names):
+        if not has_line(plan, name) or (index > 0 and name <= names[index - 1]):
+            return index
+    return None
+
+
+def restrict(plan, names):
+    """Return the flat plan with just these lines and the kinds that the plan has between them."""
+    check_plan(plan)
+    if not isinstance(names, tuple) or not names:
+        raise InvalidNames(None)
+    index = find_wrong_name(plan, names)
+    if index is not None:
+        raise InvalidNames(index)
+    return make_flat(keep_lines(plan, names))
