@@ -175,3 +175,87 @@ def restrict(plan, names):
     if index is not None:
         raise InvalidNames(index)
     return make_flat(keep_lines(plan, names))
+
+
+def find_part(plan, path):
+    """Return the part of the plan to which the path leads, or None if it leads nowhere."""
+    part = plan
+    for index in path:
+        if isinstance(part, str) or not is_below(index, len(part[1])):
+            return None
+        part = part[1][index]
+    return part
+
+
+def put_part(plan, path, part):
+    """Return the plan in which this part stands where the path leads."""
+    if not path:
+        return part
+    kind, parts = plan
+    index = path[0]
+    changed = put_part(parts[index], path[1:], part)
+    return kind, parts[:index] + (changed,) + parts[index + 1:]
+
+
+def list_junctions(plan):
+    """Return the list of (path, junction) of all junctions of the plan, in ascending order of the paths."""
+    if isinstance(plan, str):
+        return []
+    found = [((), plan)]
+    for index, part in enumerate(plan[1]):
+        found.extend([((index,) + path, junction) for path, junction in list_junctions(part)])
+    return found
+
+
+def join_part(junction, index):
+    """Return the parts of the junction after a join, or None if it cannot be made."""
+    kind, parts = junction
+    if not is_below(index, len(parts)) or find_kind(parts[index]) != kind:
+        return None
+    return parts[:index] + parts[index][1] + parts[index + 1:]
+
+
+def group_parts(junction, first, last):
+    """Return the parts of the junction after a grouping, or None if it cannot be made."""
+    kind, parts = junction
+    if not is_below(last, len(parts)) or not is_below(first, last):
+        return None
+    group = parts[first:last + 1]
+    if len(group) == len(parts):
+        return None
+    return parts[:first] + ((kind, group),) + parts[last + 1:]
+
+
+def exchange_parts(junction, index):
+    """Return the parts of the junction after an exchange, or None if it cannot be made."""
+    parts = junction[1]
+    if not is_below(index, len(parts) - 1):
+        return None
+    return parts[:index] + (parts[index + 1], parts[index]) + parts[index + 2:]
+
+
+def change_parts(junction, step):
+    """Return the parts of the junction after the step, a tuple, or None if it cannot be made."""
+    word = step[0]
+    if not isinstance(word, str):
+        return None
+    if word == "join" and len(step) == 3:
+        return join_part(junction, step[2])
+    if word == "group" and len(step) == 4:
+        return group_parts(junction, step[2], step[3])
+    if word == "exchange" and len(step) == 3:
+        return exchange_parts(junction, step[2])
+    return None
+
+
+def make_step(plan, step):
+    """Return the plan after the step, or None if the value is no step that can be made in it."""
+    if not isinstance(step, tuple) or len(step) < 2 or not isinstance(step[1], tuple):
+        return None
+    junction = find_part(plan, step[1])
+    if junction is None or isinstance(junction, str):
+        return None
+    parts = change_parts(junction, step)
+    if parts is None:
+        return None
+    return put_part(plan, step[1], (junction[0], parts))

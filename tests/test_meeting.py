@@ -6,26 +6,13 @@ from frontmeets.errors import InvalidKind, InvalidRows
 from frontmeets.meeting import meet, meet_turns
 from frontmeets.rows import split_trains
 from tests.checks import Case
+from tests.definitions import turns_of
 from tests.samples import other_values
 
 KINDS = ("low", "high")
 ROWS = ((3, 1, 6, 2), (4, 5))
 FORTY = tuple([17 * place % 41 for place in range(1, 41)])
 FIVES = tuple([FORTY[start:start + 5] for start in range(0, 40, 5)])
-
-
-def turns_by_definition(rows, kind):
-    """Return (heights, indexes) as point 6 of the document says it, one person after another."""
-    waiting = [list(row) for row in rows]
-    heights = []
-    indexes = []
-    while any(waiting):
-        fronts = {row[0]: index for index, row in enumerate(waiting) if row}
-        height = min(fronts) if kind == "low" else max(fronts)
-        heights.append(height)
-        indexes.append(fronts[height])
-        del waiting[fronts[height]][0]
-    return tuple(heights), tuple(indexes)
 
 
 def draw_rows():
@@ -86,7 +73,7 @@ class MeetTest(Case):
         self.assertEqual(meet(tuple([(height,) for height in (8, 3, 5, 1, 7, 2, 6, 4)]), "low"),
                          (1, 2, 3, 4, 5, 6, 7, 8))
         for kind in KINDS:
-            heights, indexes = turns_by_definition(FIVES, kind)
+            heights, indexes = turns_of(FIVES, kind)
             self.assertEqual(len(heights), 40)
             self.assertEqual(meet(FIVES, kind), heights)
             self.assertEqual(meet_turns(FIVES, kind), indexes)
@@ -94,7 +81,7 @@ class MeetTest(Case):
     def test_against_the_definition(self):
         for rows in draw_rows():
             for kind in KINDS:
-                heights, indexes = turns_by_definition(rows, kind)
+                heights, indexes = turns_of(rows, kind)
                 self.assertEqual(meet(rows, kind), heights)
                 self.assertEqual(meet_turns(rows, kind), indexes)
 
@@ -103,7 +90,7 @@ class MeetTest(Case):
             for cut in range(6):
                 rows = (people[:cut], people[cut:])
                 for kind in KINDS:
-                    heights, indexes = turns_by_definition(rows, kind)
+                    heights, indexes = turns_of(rows, kind)
                     self.assertEqual(meet(rows, kind), heights)
                     self.assertEqual(meet_turns(rows, kind), indexes)
 

@@ -7,44 +7,12 @@ from frontmeets.plans import (
     flatten, is_plan, kind_between, kind_table, lines_of, restrict, without_line,
 )
 from tests.checks import Case
+from tests.definitions import is_flat, kinds_in, lines_in, table_in
 from tests.samples import PLANS, Agreeing, draw_plans, left_comb, no_plans, other_values
 
 PLAN = ("low", ("a", ("high", ("b", "c"))))
 DEEP = ("low", ("h", ("high", (("low", ("e", "b", ("low", ("g", "a")))), "f")), ("low", ("d", "c"))))
 SAMPLES = list(PLANS) + draw_plans(12)
-
-
-def lines_in(plan):
-    """Return the list of the lines of the plan, in the order in which they stand there."""
-    if isinstance(plan, str):
-        return [plan]
-    return [line for part in plan[1] for line in lines_in(part)]
-
-
-def table_by_definition(plan):
-    """Return a dict of the kinds between any two lines, in both orders."""
-    if isinstance(plan, str):
-        return {}
-    kinds = {}
-    for part in plan[1]:
-        kinds.update(table_by_definition(part))
-    for part, other in itertools.permutations(plan[1], 2):
-        for pair in itertools.product(lines_in(part), lines_in(other)):
-            kinds[pair] = plan[0]
-    return kinds
-
-
-def is_flat(plan):
-    """Tell whether the plan is flat, as point 11 of the document says it."""
-    if isinstance(plan, str):
-        return True
-    kind, parts = plan
-    least = [min(lines_in(part)) for part in parts]
-    return (
-        least == sorted(least)
-        and not any([isinstance(part, tuple) and part[0] == kind for part in parts])
-        and all([is_flat(part) for part in parts])
-    )
 
 
 def mixtures(plan):
@@ -185,7 +153,7 @@ class FlattenTest(Case):
                 flat = flatten(plan)
                 self.assertTrue(is_plan(flat))
                 self.assertTrue(is_flat(flat))
-                self.assertEqual(table_by_definition(flat), table_by_definition(plan))
+                self.assertEqual(kinds_in(flat), kinds_in(plan))
                 self.assertEqual(sorted(lines_in(flat)), sorted(lines_in(plan)))
 
     def test_a_flat_plan_stays_as_it_is(self):
@@ -231,7 +199,7 @@ class KindBetweenTest(Case):
 
     def test_each_two_lines_in_both_orders(self):
         for plan in SAMPLES:
-            for (one, other), kind in table_by_definition(plan).items():
+            for (one, other), kind in kinds_in(plan).items():
                 self.assertEqual(kind_between(plan, one, other), kind)
 
     def test_an_unknown_first_line(self):
@@ -276,9 +244,7 @@ class KindTableTest(Case):
 
     def test_the_tables_of_plans(self):
         for plan in SAMPLES:
-            kinds = table_by_definition(plan)
-            pairs = itertools.combinations(sorted(lines_in(plan)), 2)
-            self.assertEqual(kind_table(plan), tuple([pair + (kinds[pair],) for pair in pairs]))
+            self.assertEqual(kind_table(plan), table_in(plan))
 
     def test_eight_lines_have_28_triples(self):
         self.assertEqual(len(kind_table(DEEP)), 28)
@@ -322,7 +288,7 @@ class WithoutLineTest(Case):
 
     def test_the_other_lines_keep_their_kinds(self):
         for plan in SAMPLES:
-            kinds = table_by_definition(plan)
+            kinds = kinds_in(plan)
             if isinstance(plan, str):
                 continue
             for line in lines_in(plan):
@@ -330,7 +296,7 @@ class WithoutLineTest(Case):
                 self.assertTrue(is_plan(left))
                 self.assertEqual(lines_in(left), [other for other in lines_in(plan) if other != line])
                 expected = {pair: kind for pair, kind in kinds.items() if line not in pair}
-                self.assertEqual(table_by_definition(left), expected)
+                self.assertEqual(kinds_in(left), expected)
 
     def test_the_only_line(self):
         for line in ("a", "low", "abcdef"):
@@ -364,7 +330,7 @@ class RestrictTest(Case):
 
     def test_all_choices_of_lines(self):
         for plan in list(PLANS) + [DEEP]:
-            kinds = table_by_definition(plan)
+            kinds = kinds_in(plan)
             lines = sorted(lines_in(plan))
             for count in range(1, len(lines) + 1):
                 for names in itertools.combinations(lines, count):
@@ -372,7 +338,7 @@ class RestrictTest(Case):
                     self.assertTrue(is_flat(found))
                     self.assertEqual(sorted(lines_in(found)), list(names))
                     expected = {pair: kinds[pair] for pair in itertools.permutations(names, 2)}
-                    self.assertEqual(table_by_definition(found), expected)
+                    self.assertEqual(kinds_in(found), expected)
 
     def test_junctions_of_one_kind_that_come_together(self):
         plan = ("low", ("d", ("high", ("b", ("low", ("c", "a"))))))
