@@ -1,8 +1,10 @@
-"""One junction: rows that meet where the shortest or the tallest front goes first."""
+"""People who wait in rows or lines, and how rows meet at one junction."""
 
 from frontmeets.errors import InvalidRows
-from frontmeets.limits import MOST_LINES, MOST_PEOPLE
-from frontmeets.rows import check_kind, goes_first, is_row
+from frontmeets.limits import MOST_LINES, MOST_PEOPLE, SMALL
+from frontmeets.rows import (
+    LOW, check_kind, find_heads, goes_first, is_row, is_tuple_of, is_word,
+)
 
 
 def fits_beside(row, heights):
@@ -71,3 +73,102 @@ def meet_turns(rows, kind):
     check_rows(rows)
     check_kind(kind)
     return tuple([index for index, height in list_turns(rows, kind)])
+
+
+def find_breakers(turns, kind):
+    """Return the list of the people who cannot go in these turns at a junction of this kind.
+
+    They come from another row than the person before them, although they are no heads.
+    """
+    heads = find_heads([height for index, height in turns], kind)
+    breakers = []
+    for place in range(1, len(turns)):
+        if turns[place][0] != turns[place - 1][0] and place not in heads:
+            breakers.append(turns[place][1])
+    return breakers
+
+
+def compare_turns(turns, kind):
+    """Return the list of the pairs (shorter, taller) of people who are compared if they go in these turns."""
+    pairs = []
+    for place, (index, person) in enumerate(turns):
+        fronts = {}
+        for other, front in turns[place + 1:]:
+            fronts.setdefault(other, front)
+        for other in fronts:
+            if other != index:
+                pairs.append((person, fronts[other]) if kind == LOW else (fronts[other], person))
+    return pairs
+
+
+def has_crowd_form(value):
+    """Tell whether the value is a tuple with no more elements than a crowd may have."""
+    return isinstance(value, tuple) and len(value) <= MOST_LINES
+
+
+def find_wrong_pair(crowd):
+    """Return the index of the first element that cannot stand in a crowd behind those before, or None."""
+    heights = []
+    for index, pair in enumerate(crowd):
+        if not is_tuple_of(pair, 2) or not is_word(pair[0]) or not is_row(pair[1]):
+            return index
+        if index > 0 and pair[0] <= crowd[index - 1][0]:
+            return index
+        if not fits_beside(pair[1], heights):
+            return index
+        heights.extend(pair[1])
+    return None
+
+
+def list_people(waiting):
+    """Return the list of the people who wait in the lines, line by line."""
+    return [person for line, people in waiting for person in people]
+
+
+def has_people(crowd, row):
+    """Tell whether the row has exactly the people of the crowd."""
+    return sorted(list_people(crowd)) == sorted(row)
+
+
+def is_run(value):
+    """Tell whether the value is a run; any value may be passed."""
+    if not is_tuple_of(value, 2) or not has_crowd_form(value[0]) or not is_row(value[1]):
+        return False
+    return find_wrong_pair(value[0]) is None and has_people(value[0], value[1])
+
+
+def are_names(value):
+    """Tell whether the value is a tuple of names."""
+    return isinstance(value, tuple) and all([is_word(name) for name in value])
+
+
+def is_names_pair(value):
+    """Tell whether the value is a pair of a line and a tuple of names."""
+    return is_tuple_of(value, 2) and is_word(value[0]) and are_names(value[1])
+
+
+def is_record(value):
+    """Tell whether the value is a record; any value may be passed."""
+    if not is_tuple_of(value, 2) or not isinstance(value[0], tuple) or not are_names(value[1]):
+        return False
+    if not all([is_names_pair(pair) for pair in value[0]]):
+        return False
+    lines = [line for line, names in value[0]]
+    names = list_people(value[0])
+    if lines != sorted(set(lines)) or len(set(names)) != len(names):
+        return False
+    return 2 <= len(names) <= SMALL and sorted(names) == sorted(value[1])
+
+
+def keeps_lines(waiting, result):
+    """Tell whether the people of each line have the same order in the result as in the line."""
+    for line, people in waiting:
+        if [person for person in result if person in people] != list(people):
+            return False
+    return True
+
+
+def find_sources(waiting, result):
+    """Return the list of (line, person) of all people of the result, in order."""
+    sources = {person: line for line, people in waiting for person in people}
+    return [(sources[person], person) for person in result]

@@ -2,7 +2,8 @@
 
 from frontmeets.errors import InvalidText
 from frontmeets.limits import MOST_LINES
-from frontmeets.plans import LETTERS, check_plan, is_plan
+from frontmeets.plans import check_plan, is_plan
+from frontmeets.rows import LETTERS
 
 
 def write_plan(plan):

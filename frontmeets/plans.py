@@ -2,22 +2,15 @@
 
 from frontmeets.errors import InvalidNames, InvalidPlan, LastLine, UnknownLine
 from frontmeets.limits import MOST_LINES
-from frontmeets.rows import is_below, is_kind
-
-LETTERS = "abcdefghijklmnopqrstuvwxyz"
-MOST_LETTERS = 6
-
-
-def is_line(value):
-    """Tell whether the value is a line."""
-    if not isinstance(value, str) or not 1 <= len(value) <= MOST_LETTERS:
-        return False
-    return all([letter in LETTERS for letter in value])
+from frontmeets.meeting import (
+    compare_turns, find_breakers, find_sources, is_record, is_run, keeps_lines, merge_rows,
+)
+from frontmeets.rows import is_below, is_kind, is_tuple_of, is_word
 
 
 def has_junction_form(value):
     """Tell whether the value is a pair of a kind and two or more parts, whatever the parts are."""
-    if not isinstance(value, tuple) or len(value) != 2:
+    if not is_tuple_of(value, 2):
         return False
     kind, parts = value
     return is_kind(kind) and isinstance(parts, tuple) and len(parts) >= 2
@@ -25,7 +18,7 @@ def has_junction_form(value):
 
 def add_lines(value, lines):
     """Append the lines of the value to the list; return False at once where it can be no plan."""
-    if is_line(value):
+    if is_word(value):
         if value in lines or len(lines) == MOST_LINES:
             return False
         lines.append(value)
@@ -64,7 +57,7 @@ def lines_of(plan):
 
 def has_line(plan, value):
     """Tell whether the value, which may be any, is a line of the plan."""
-    return is_line(value) and value in list_lines(plan)
+    return is_word(value) and value in list_lines(plan)
 
 
 def check_line(plan, line):
@@ -259,3 +252,61 @@ def make_step(plan, step):
     if parts is None:
         return None
     return put_part(plan, step[1], (junction[0], parts))
+
+
+def find_result(plan, waiting):
+    """Return the result of the plan for a dict of the rows in its lines."""
+    if isinstance(plan, str):
+        return waiting.get(plan, ())
+    kind, parts = plan
+    return merge_rows([find_result(part, waiting) for part in parts], kind)
+
+
+def find_turns(junction, people):
+    """Return the list of (index of the part, person) of those of the people who come to the junction.
+
+    The people are pairs of a line and a person, in the order in which they go.
+    """
+    parts = {line: index for index, part in enumerate(junction[1]) for line in list_lines(part)}
+    return [(parts[line], person) for line, person in people if line in parts]
+
+
+def has_lines(plan, waiting):
+    """Tell whether the lines of all pairs are lines of the plan."""
+    lines = list_lines(plan)
+    return all([pair[0] in lines for pair in waiting])
+
+
+def find_wrong_record(plan, records):
+    """Return the index of the first element that is no record of the plan or has other names, or None."""
+    for index, record in enumerate(records):
+        if not is_record(record) or not has_lines(plan, record[0]):
+            return index
+        if sorted(record[1]) != sorted(records[0][1]):
+            return index
+    return None
+
+
+def find_comparisons(plan, record):
+    """Return the list of the pairs (shorter, taller) that the junctions compare, or None."""
+    if not keeps_lines(record[0], record[1]):
+        return None
+    people = find_sources(record[0], record[1])
+    pairs = []
+    for path, junction in list_junctions(plan):
+        pairs.extend(compare_turns(find_turns(junction, people), junction[0]))
+    return pairs
+
+
+def find_wrong_run(plan, runs):
+    """Return the index of the first element that is no run of the plan, or None."""
+    for index, run in enumerate(runs):
+        if not is_run(run) or not has_lines(plan, run[0]):
+            return index
+    return None
+
+
+def fits(junction, kind, run):
+    """Tell whether the kind fits the junction in the run."""
+    turns = find_turns(junction, find_sources(run[0], run[1]))
+    return not find_breakers(turns, kind)

@@ -1,10 +1,12 @@
-"""Numbers, heights, rows, kinds, and the trains of a row."""
+"""Numbers, words, heights, rows, kinds, and the trains of a row."""
 
 from frontmeets.errors import InvalidKind, InvalidRow
-from frontmeets.limits import MOST_HEIGHT, MOST_PEOPLE
+from frontmeets.limits import MOST_HEIGHT, MOST_PEOPLE, SMALL
 
 LOW = "low"
 HIGH = "high"
+LETTERS = "abcdefghijklmnopqrstuvwxyz"
+MOST_LETTERS = 6
 
 
 def is_number(value):
@@ -16,6 +18,23 @@ def is_number(value):
 def is_below(value, limit):
     """Tell whether the value is an integer from 0 to below the limit, such as an index."""
     return is_number(value) and 0 <= value < limit
+
+
+def is_word(value):
+    """Tell whether the value is a string of one to six lowercase letters, as lines and names are."""
+    if not isinstance(value, str) or not 1 <= len(value) <= MOST_LETTERS:
+        return False
+    return all([letter in LETTERS for letter in value])
+
+
+def is_tuple_of(value, size):
+    """Tell whether the value is a tuple with so many elements."""
+    return isinstance(value, tuple) and len(value) == size
+
+
+def is_few(value):
+    """Tell whether the value is a tuple with as many elements as there may be records or runs."""
+    return isinstance(value, tuple) and 1 <= len(value) <= SMALL
 
 
 def is_height(value):

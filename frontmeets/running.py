@@ -1,32 +1,10 @@
 """Crowds, and what a plan makes of them."""
 
 from frontmeets.errors import HeightTaken, InvalidCrowd, InvalidHeight, TooManyPeople, UnknownLine
-from frontmeets.limits import MOST_LINES, MOST_PEOPLE
-from frontmeets.meeting import fits_beside, merge_rows
-from frontmeets.plans import check_line, check_plan, is_line
-from frontmeets.rows import is_height, is_row
-
-
-def is_crowd_pair(value):
-    """Tell whether the value is a pair of a line and a row."""
-    return isinstance(value, tuple) and len(value) == 2 and is_line(value[0]) and is_row(value[1])
-
-
-def find_wrong_pair(crowd):
-    """Return the index of the first element that cannot stand behind those before, or None."""
-    heights = []
-    for index, pair in enumerate(crowd):
-        if not is_crowd_pair(pair) or (index > 0 and pair[0] <= crowd[index - 1][0]):
-            return index
-        if not fits_beside(pair[1], heights):
-            return index
-        heights.extend(pair[1])
-    return None
-
-
-def has_crowd_form(value):
-    """Tell whether the value is a tuple with no more elements than a crowd may have."""
-    return isinstance(value, tuple) and len(value) <= MOST_LINES
+from frontmeets.limits import MOST_PEOPLE
+from frontmeets.meeting import find_sources, find_wrong_pair, has_crowd_form, list_people
+from frontmeets.plans import check_line, check_plan, find_result
+from frontmeets.rows import is_height
 
 
 def is_crowd(value):
@@ -45,14 +23,6 @@ def check_crowd(plan, crowd):
         check_line(plan, line)
 
 
-def find_result(plan, waiting):
-    """Return the result of the plan for a dict of the rows in its lines."""
-    if isinstance(plan, str):
-        return waiting.get(plan, ())
-    kind, parts = plan
-    return merge_rows([find_result(part, waiting) for part in parts], kind)
-
-
 def run_plan(plan, crowd):
     """Return the row into which the plan turns the crowd."""
     check_plan(plan)
@@ -63,8 +33,7 @@ def run_plan(plan, crowd):
 def source_lines(plan, crowd):
     """Return the tuple of the lines from which the people of the result come."""
     result = run_plan(plan, crowd)
-    sources = {height: line for line, row in crowd for height in row}
-    return tuple([sources[height] for height in result])
+    return tuple([line for line, height in find_sources(crowd, result)])
 
 
 def next_person(plan, crowd):
@@ -78,7 +47,7 @@ def check_entry(plan, crowd, line, height):
     check_line(plan, line)
     if not is_height(height):
         raise InvalidHeight(height)
-    heights = [person for source, row in crowd for person in row]
+    heights = list_people(crowd)
     if height in heights:
         raise HeightTaken(height)
     if len(heights) == MOST_PEOPLE:

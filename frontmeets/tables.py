@@ -2,16 +2,16 @@
 
 from frontmeets.errors import InvalidTable
 from frontmeets.limits import MOST_LINES
-from frontmeets.plans import is_line, list_pairs
-from frontmeets.rows import HIGH, LOW, is_kind
+from frontmeets.plans import list_pairs
+from frontmeets.rows import HIGH, LOW, is_kind, is_tuple_of, is_word
 
 
 def is_triple(value):
     """Tell whether the value is a triple of two ascending lines and a kind."""
-    if not isinstance(value, tuple) or len(value) != 3:
+    if not is_tuple_of(value, 3):
         return False
     one, other, kind = value
-    return is_line(one) and is_line(other) and one < other and is_kind(kind)
+    return is_word(one) and is_word(other) and one < other and is_kind(kind)
 
 
 def find_wrong_triple(table):

@@ -22,15 +22,18 @@ class Case(unittest.TestCase):
             else:
                 self.assertIs(found, value)
 
-    def assert_interface(self, function, module, names):
-        """Check where the function is defined and which parameters it has."""
+    def assert_interface(self, function, module, names, **by_name):
+        """Check where the function is defined, its parameters and those passed by name only."""
         self.assertTrue(inspect.isfunction(function))
         self.assertEqual(function.__module__, module)
-        parameters = inspect.signature(function).parameters.values()
-        self.assertEqual([parameter.name for parameter in parameters], names)
-        for parameter in parameters:
+        parameters = list(inspect.signature(function).parameters.values())
+        self.assertEqual([parameter.name for parameter in parameters], names + list(by_name))
+        for parameter in parameters[:len(names)]:
             self.assertIs(parameter.kind, inspect.Parameter.POSITIONAL_OR_KEYWORD)
             self.assertIs(parameter.default, inspect.Parameter.empty)
+        for parameter in parameters[len(names):]:
+            self.assertIs(parameter.kind, inspect.Parameter.KEYWORD_ONLY)
+            self.assertEqual(parameter.default, by_name[parameter.name])
 
     def assert_calls(self, function, names, values, result):
         """Check the call by position, by name and mixed; what is passed stays as it was."""

@@ -115,3 +115,14 @@ def draw_plans(count, sizes=range(1, 9)):
     chance = random.Random(11)
     letters = "abcdefgh"
     return [make_plan(chance, letters[:size]) for size in sizes for _ in range(count)]
+
+
+def draw_crowd(chance, lines, most):
+    """Return a crowd of some of these lines with at most so many people."""
+    present = sorted(chance.sample(lines, chance.randint(0, len(lines))))
+    people = chance.sample(range(1, 1000), chance.randint(0, most) if present else 0)
+    cuts = sorted([chance.randint(0, len(people)) for _ in present[1:]])
+    ends = cuts + [len(people)]
+    return tuple([
+        (line, tuple(people[start:end])) for line, start, end in zip(present, [0] + cuts, ends)
+    ])

@@ -9,7 +9,9 @@ from frontmeets.plans import flatten
 from frontmeets.running import exchanged, is_crowd, next_person, run_plan, source_lines
 from tests.checks import Case
 from tests.definitions import lines_in, result_of
-from tests.samples import PLANS, Agreeing, draw_plans, left_comb, no_plans, other_values, right_comb
+from tests.samples import (
+    PLANS, Agreeing, draw_crowd, draw_plans, left_comb, no_plans, other_values, right_comb,
+)
 
 PLAN = ("low", ("a", ("high", ("b", "c"))))
 CROWD = (("a", (5, 1)), ("b", (2, 6)), ("c", (4, 3)))
@@ -17,17 +19,6 @@ DEEP = left_comb(["low", "high"] * 3 + ["low"])
 FORTY = tuple([17 * place % 41 for place in range(1, 41)])
 SAMPLES = list(PLANS) + draw_plans(8)
 RUNS = (run_plan, source_lines, next_person)
-
-
-def draw_crowd(chance, lines, most):
-    """Return a crowd of some of these lines with at most so many people."""
-    present = sorted(chance.sample(lines, chance.randint(0, len(lines))))
-    people = chance.sample(range(1, 1000), chance.randint(0, most) if present else 0)
-    cuts = sorted([chance.randint(0, len(people)) for _ in present[1:]])
-    ends = cuts + [len(people)]
-    return tuple([
-        (line, tuple(people[start:end])) for line, start, end in zip(present, [0] + cuts, ends)
-    ])
 
 
 def draw_cases(most=40):
