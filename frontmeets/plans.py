@@ -1,11 +1,11 @@
-"""Plans: their lines and junctions, the kinds between lines, paths, and steps that change a plan."""
+"""Plans: their lines and junctions, tables of kinds, paths, steps, and who comes to which junction."""
 
 from frontmeets.errors import InvalidNames, InvalidPlan, LastLine, UnknownLine
 from frontmeets.limits import MOST_LINES
 from frontmeets.meeting import (
     compare_turns, find_breakers, find_sources, is_record, is_run, keeps_lines, merge_rows,
 )
-from frontmeets.rows import is_below, is_kind, is_tuple_of, is_word
+from frontmeets.rows import HIGH, LOW, is_below, is_kind, is_tuple_of, is_word
 
 
 def has_junction_form(value):
@@ -127,6 +127,59 @@ def kind_table(plan):
     """Return the table of the kinds between the lines of the plan."""
     pairs = list_pairs(lines_of(plan))
     return tuple([(one, other, find_meeting_kind(plan, one, other)) for one, other in pairs])
+
+
+def is_triple(value):
+    """Tell whether the value is a triple of two ascending lines and a kind."""
+    if not is_tuple_of(value, 3):
+        return False
+    one, other, kind = value
+    return is_word(one) and is_word(other) and one < other and is_kind(kind)
+
+
+def find_wrong_triple(table):
+    """Return the index of the first element that is no triple or does not ascend, or None."""
+    for index, triple in enumerate(table):
+        if not is_triple(triple) or (index > 0 and triple[:2] <= table[index - 1][:2]):
+            return index
+    return None
+
+
+def list_table_lines(table):
+    """Return the ascending list of the lines in the triples of the table."""
+    return sorted(set([line for triple in table for line in triple[:2]]))
+
+
+def has_all_pairs(table):
+    """Tell whether the ascending triples are those of all pairs of two to eight lines."""
+    lines = list_table_lines(table)
+    if not 2 <= len(lines) <= MOST_LINES:
+        return False
+    return [triple[:2] for triple in table] == list_pairs(lines)
+
+
+def is_table_of_kinds(value):
+    """Tell whether the value is a table; any value may be passed."""
+    return isinstance(value, tuple) and find_wrong_triple(value) is None and has_all_pairs(value)
+
+
+def map_kinds(table):
+    """Return a dict of the kinds between any two lines of the table, in both orders."""
+    kinds = {}
+    for one, other, kind in table:
+        kinds[one, other] = kind
+        kinds[other, one] = kind
+    return kinds
+
+
+def is_four(four, kinds):
+    """Tell whether these four lines W, X, Y, Z show that no plan has these kinds between its lines."""
+    first, second, third, fourth = four
+    near = [(first, second), (second, third), (third, fourth)]
+    far = [(first, third), (second, fourth), (first, fourth)]
+    # A line has no kind with itself, so lines of which some are the same show nothing.
+    found = [kinds.get(pair) for pair in near + far]
+    return found in ([LOW] * 3 + [HIGH] * 3, [HIGH] * 3 + [LOW] * 3)
 
 
 def keep_lines(plan, lines):

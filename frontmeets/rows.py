@@ -32,6 +32,11 @@ def is_tuple_of(value, size):
     return isinstance(value, tuple) and len(value) == size
 
 
+def begins_with_string(value):
+    """Tell whether the value is a tuple of which the first element is a string."""
+    return isinstance(value, tuple) and len(value) > 0 and isinstance(value[0], str)
+
+
 def is_few(value):
     """Tell whether the value is a tuple with as many elements as there may be records or runs."""
     return isinstance(value, tuple) and 1 <= len(value) <= SMALL

@@ -1,6 +1,10 @@
-"""Values of many kinds, for the places where any value may be passed, and plans."""
+"""Values of many kinds, for the places where any value may be passed, and plans, crowds and records."""
 
 import random
+
+from frontmeets.running import run_plan
+
+NAMES = ("ann", "bob", "cy", "dora", "eve", "fay", "gil", "hal", "ida", "jo", "kim", "lee")
 
 
 class Agreeing:
@@ -125,4 +129,21 @@ def draw_crowd(chance, lines, most):
     ends = cuts + [len(people)]
     return tuple([
         (line, tuple(people[start:end])) for line, start, end in zip(present, [0] + cuts, ends)
+    ])
+
+
+def run_record(plan, waiting, order):
+    """Return the record of the plan with heights in this order."""
+    heights = {name: place for place, name in enumerate(order, 1)}
+    crowd = tuple([(line, tuple([heights[name] for name in names])) for line, names in waiting])
+    return waiting, tuple([order[height - 1] for height in run_plan(plan, crowd)])
+
+
+def draw_waiting(drawn, lines, names):
+    """Return pairs of some of the lines and the names, mixed, as in a record."""
+    present = sorted(drawn.sample(lines, drawn.randint(1, len(lines))))
+    mixed = drawn.sample(names, len(names))
+    cuts = sorted([drawn.randint(0, len(mixed)) for _ in present[1:]])
+    return tuple([
+        (line, tuple(mixed[start:end])) for line, start, end in zip(present, [0] + cuts, cuts + [len(mixed)])
     ])

@@ -112,6 +112,53 @@ class FormTest(unittest.TestCase):
             for name in free:
                 del wanted[name]
 
+    def test_each_import_names_the_file_that_defines_the_name(self):
+        defined = {}
+        for name, text in source_files():
+            top = ast.parse(text).body
+            names = [node.name for node in top if isinstance(node, (ast.FunctionDef, ast.ClassDef))]
+            names += [node.targets[0].id for node in top if isinstance(node, ast.Assign)]
+            defined["frontmeets." + name[:-3]] = names
+        for name, text in source_files():
+            for node in nodes_of(text, ast.ImportFrom):
+                for part in node.names:
+                    self.assertIn(part.name, defined[node.module], name)
+                    self.assertIsNone(part.asname)
+
+    def test_no_name_is_a_method_and_an_attribute(self):
+        methods = set()
+        attributes = set()
+        for name, text in source_files():
+            for owner in nodes_of(text, ast.ClassDef):
+                methods |= {node.name for node in owner.body if isinstance(node, ast.FunctionDef)}
+            attributes |= {
+                node.attr for node in nodes_of(text, ast.Attribute) if isinstance(node.ctx, ast.Store)
+            }
+        self.assertEqual(sorted(methods & attributes), [])
+
+    def test_tables_at_module_level_are_not_passed_on(self):
+        for name, text in source_files():
+            tables = [
+                node.targets[0].id for node in ast.parse(text).body
+                if isinstance(node, ast.Assign) and isinstance(node.value, (ast.Dict, ast.List))
+            ]
+            read = [node for node in nodes_of(text, ast.Name) if node.id in tables and isinstance(node.ctx, ast.Load)]
+            held = [node.value for node in nodes_of(text, ast.Subscript, ast.Attribute)]
+            self.assertEqual([node.id for node in read if (node.lineno, node.col_offset)
+                              not in [(part.lineno, part.col_offset) for part in held]], [], name)
+
+    def test_errors_are_raised_on_the_spot_and_is_stands_beside_none(self):
+        for name, text in source_files():
+            with self.subTest(name=name):
+                for node in nodes_of(text, ast.Raise):
+                    self.assertIsInstance(node.exc, ast.Call)
+                    self.assertIsInstance(node.exc.func, ast.Name)
+                    self.assertEqual(node.exc.keywords, [])
+                for node in nodes_of(text, ast.Compare):
+                    for sign, part in zip(node.ops, node.comparators):
+                        if isinstance(sign, (ast.Is, ast.IsNot)):
+                            self.assertIn(ast.unparse(part), ("None", "True", "False"))
+
     def test_no_generators_and_no_calls_that_are_barred(self):
         for name, text in source_files():
             with self.subTest(name=name):

@@ -4,37 +4,21 @@ import unittest
 
 from frontmeets.errors import InvalidPlan, InvalidRecord, NoOrder, UnknownName
 from frontmeets.observations import comparisons, count_orders, find_order, is_shorter
-from frontmeets.running import run_plan
 from tests.checks import Case
 from tests.definitions import comparisons_of, lines_in, orders_of
-from tests.samples import PLANS, Agreeing, draw_plans, left_comb, no_plans, other_values, right_comb
+from tests.samples import (
+    NAMES, PLANS, Agreeing, draw_plans, draw_waiting, left_comb, no_plans, other_values, right_comb,
+    run_record,
+)
 
 PLAN = ("low", ("a", "b"))
 THREE = ("low", ("a", ("high", ("b", "c"))))
 WAITING = (("a", ("ann", "bob")), ("b", ("cy",)))
 RECORD = (WAITING, ("ann", "cy", "bob"))
 OTHER = (WAITING, ("ann", "bob", "cy"))
-NAMES = ("ann", "bob", "cy", "dora", "eve", "fay", "gil", "hal", "ida", "jo", "kim", "lee")
 DEEP = left_comb(["low", "high"] * 3 + ["low"])
 SAMPLES = list(PLANS) + draw_plans(6)
 FOUND = (find_order, count_orders)
-
-
-def run_record(plan, waiting, order):
-    """Return the record of the plan with heights in this order."""
-    heights = {name: place for place, name in enumerate(order, 1)}
-    crowd = tuple([(line, tuple([heights[name] for name in names])) for line, names in waiting])
-    return waiting, tuple([order[height - 1] for height in run_plan(plan, crowd)])
-
-
-def draw_waiting(chance, lines, names):
-    """Return pairs of some of the lines and the names, mixed, as in a record."""
-    present = sorted(chance.sample(lines, chance.randint(1, len(lines))))
-    mixed = chance.sample(names, len(names))
-    cuts = sorted([chance.randint(0, len(mixed)) for _ in present[1:]])
-    return tuple([
-        (line, tuple(mixed[start:end])) for line, start, end in zip(present, [0] + cuts, cuts + [len(mixed)])
-    ])
 
 
 def draw_records(chance, plan, names, count, share):
