@@ -3,7 +3,7 @@
 from frontmeets.meeting import are_names, find_breakers, keeps_lines
 from frontmeets.plans import (
     find_comparisons, find_meeting_kind, find_part, find_result, find_turns, find_wrong_record,
-    find_wrong_run, fits, has_line, is_table_of_kinds, is_four, is_plan, kind_table, lines_of,
+    find_wrong_run, fits, has_line, is_four, is_plan, is_table_of_kinds, kind_table, lines_of,
     list_junctions, make_step, map_kinds,
 )
 from frontmeets.rows import (
@@ -76,7 +76,7 @@ def has_sources(claim):
 
 def list_breakers(claim, junction):
     """Return the list of the people who break the condition at the junction."""
-    plan, row, sources = claim[1:]
+    row, sources = claim[2:]
     return find_breakers(find_turns(junction, list(zip(sources, row))), junction[0])
 
 

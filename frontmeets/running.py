@@ -1,6 +1,6 @@
 """Crowds, and what a plan makes of them."""
 
-from frontmeets.errors import HeightTaken, InvalidCrowd, InvalidHeight, TooManyPeople, UnknownLine
+from frontmeets.errors import HeightTaken, InvalidCrowd, InvalidHeight, TooManyPeople
 from frontmeets.limits import MOST_PEOPLE
 from frontmeets.meeting import find_sources, find_wrong_pair, has_crowd_form, list_people
 from frontmeets.plans import check_line, check_plan, find_result

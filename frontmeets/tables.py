@@ -2,7 +2,7 @@
 
 from frontmeets.errors import InvalidTable
 from frontmeets.plans import (
-    find_wrong_triple, has_all_pairs, is_table_of_kinds, is_four, list_table_lines, map_kinds,
+    find_wrong_triple, has_all_pairs, is_four, is_table_of_kinds, list_table_lines, map_kinds,
 )
 from frontmeets.rows import HIGH, LOW
 

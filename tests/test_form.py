@@ -125,6 +125,12 @@ class FormTest(unittest.TestCase):
                     self.assertIn(part.name, defined[node.module], name)
                     self.assertIsNone(part.asname)
 
+    def test_each_import_is_used(self):
+        for name, text in source_files():
+            read = {node.id for node in nodes_of(text, ast.Name)}
+            wanted = {part.name for node in nodes_of(text, ast.ImportFrom) for part in node.names}
+            self.assertEqual(sorted(wanted - read), [], name)
+
     def test_no_name_is_a_method_and_an_attribute(self):
         methods = set()
         attributes = set()
